@@ -35,18 +35,18 @@ def step_before(tree, i, coming):
     return points
 
 
-def step_points(tree, claim, i):
-    """The points of each node of step i, by rising j, on a tree that's let."""
-    points = last_step(tree, claim)
-    for step in range(tree.steps - 1, i - 1, -1):
-        points = step_before(tree, step, points)
-    return points
+def points_by_step(tree, claim):
+    """The points of every node, by steps and in each by rising j, on a tree that's let."""
+    steps = [last_step(tree, claim)]
+    for i in range(tree.steps - 1, -1, -1):
+        steps.insert(0, step_before(tree, i, steps[0]))
+    return steps
 
 
 def node_range(tree, i, j):
     """The first and the last q of a node's points."""
     # These don't hang on the claim, so one that asks for nothing tells them.
-    points = step_points(tree, empty_claim(tree.steps), i)[j]
+    points = points_by_step(tree, empty_claim(tree.steps))[i][j]
     return (points[0][0], points[-1][0])
 
 

@@ -8,8 +8,10 @@ from costhedge.claim import together
 from costhedge.claim import turned
 from costhedge.hedge import is_let
 from costhedge.hedge import node_range
-from costhedge.hedge import step_points
+from costhedge.hedge import points_by_step
+from costhedge.plan import planned
 from costhedge.ratio import counted_bytes
+from costhedge.ratio import less
 from costhedge.ratio import ratio
 from costhedge.ratio import text_bytes
 from costhedge.row import least_cash
@@ -17,6 +19,7 @@ from costhedge.tree import Tree
 from costhedge.tree import all_between
 from costhedge.tree import nodes_before
 from costhedge.tree import tree_refusal
+from costhedge.walk import walked
 
 LIMIT = 1000000
 
@@ -87,9 +90,9 @@ def answer_least(book, parts):
         return [refused]
     if not book.tree.has_node(i, j):
         return [-3]
-    if not -LIMIT <= x <= LIMIT:
+    if not all_between([x], -LIMIT, LIMIT):
         return [-4]
-    points = step_points(book.tree, book.claims[r], i)[j]
+    points = points_by_step(book.tree, book.claims[r])[i][j]
     return [0] + text_bytes(least_cash(points, ratio(x, 1)))
 
 
@@ -102,7 +105,7 @@ def answer_points(book, parts):
         return [refused]
     if not book.tree.has_node(i, j):
         return [-3]
-    points = step_points(book.tree, book.claims[r], i)[j]
+    points = points_by_step(book.tree, book.claims[r])[i][j]
     told = [len(points)]
     for q, v in points:
         told = told + counted_bytes(q) + counted_bytes(v)
@@ -121,6 +124,96 @@ def answer_range(book, parts):
     return [0] + counted_bytes(ends[0]) + counted_bytes(ends[1])
 
 
+def answer_plan(book, parts):
+    r = parts[0]
+    i = parts[1]
+    j = parts[2]
+    num = parts[3]
+    den = parts[4]
+    refused = book.refusal([], [r])
+    if refused != 0:
+        return [refused]
+    if not book.tree.has_node_before_last(i, j):
+        return [-3]
+    if not (1 <= den <= LIMIT and all_between([num], -LIMIT, LIMIT)):
+        return [-4]
+    coming = points_by_step(book.tree, book.claims[r])[i + 1]
+    return [0] + text_bytes(planned(book.tree, i, j, coming, ratio(num, den)))
+
+
+def walk_refusal(book, r, x, way):
+    """What refuses a walk, or 0."""
+    refused = book.refusal([], [r])
+    if refused != 0:
+        return refused
+    if not book.tree.has_way(way):
+        return -3
+    if not all_between([x], -LIMIT, LIMIT):
+        return -4
+    return 0
+
+
+def answer_walk(book, parts):
+    r = parts[0]
+    x = parts[1]
+    way = parts[2]
+    refused = walk_refusal(book, r, x, way)
+    if refused != 0:
+        return [refused]
+    return [0] + text_bytes(walked(book.tree, book.claims[r], x, way).left)
+
+
+def answer_held(book, parts):
+    r = parts[0]
+    x = parts[1]
+    way = parts[2]
+    refused = walk_refusal(book, r, x, way)
+    if refused != 0:
+        return [refused]
+    told = [book.tree.steps]
+    for units in walked(book.tree, book.claims[r], x, way).held:
+        told = told + counted_bytes(units)
+    return told
+
+
+def answer_enough(book, parts):
+    r = parts[0]
+    x = parts[1]
+    num = parts[2]
+    den = parts[3]
+    refused = book.refusal([], [r])
+    if refused != 0:
+        return [refused]
+    if not (1 <= den <= LIMIT and all_between([num, x], -LIMIT, LIMIT)):
+        return [-4]
+    points = points_by_step(book.tree, book.claims[r])[0][0]
+    if less(ratio(num, den), least_cash(points, ratio(x, 1))):
+        return [0]
+    return [1]
+
+
+def answer_quotes(book, parts):
+    i = parts[0]
+    refused = book.refusal([], [])
+    if refused != 0:
+        return [refused]
+    if not 0 <= i <= book.tree.steps:
+        return [-3]
+    told = [i + 1]
+    for j in range(i + 1):
+        told = told + [book.tree.bid_at(i, j), book.tree.ask_at(i, j)]
+    return told
+
+
+def answer_told(book, parts):
+    r = parts[0]
+    refused = book.refusal([], [r])
+    if refused != 0:
+        return [refused]
+    claim = book.claims[r]
+    return [len(claim.cash)] + claim.cash + [len(claim.units)] + claim.units
+
+
 # At a call's number: how many whole numbers it has, how many rows behind them, and what answers it.
 FORMS = (
     (3, 2, answer_tree),
@@ -130,4 +223,10 @@ FORMS = (
     (4, 0, answer_least),
     (3, 0, answer_points),
     (2, 0, answer_range),
+    (5, 0, answer_plan),
+    (2, 1, answer_walk),
+    (2, 1, answer_held),
+    (4, 0, answer_enough),
+    (1, 0, answer_quotes),
+    (1, 0, answer_told),
 )

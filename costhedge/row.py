@@ -53,6 +53,11 @@ def upper_row(left, right):
     return row
 
 
+def piece_slope(left, right):
+    """The slope of the straight piece from left, of the lesser q, to right."""
+    return over(minus(right[1], left[1]), minus(right[0], left[0]))
+
+
 def value_at(row, q):
     """The v that the row tells at q, which lies from its first q to its last one."""
     place = 0
@@ -62,8 +67,7 @@ def value_at(row, q):
     if right[0] == q:
         return right[1]
     left = row[place - 1]
-    slope = over(minus(right[1], left[1]), minus(right[0], left[0]))
-    return plus(left[1], times(slope, minus(q, left[0])))
+    return plus(left[1], times(piece_slope(left, right), minus(q, left[0])))
 
 
 def cut_row(row, low, high):

@@ -8,12 +8,19 @@ class Tree:
 
     def __init__(self, steps, a, b, bids, asks):
         self.steps = steps
+        self.growth = ratio(a, b)
         self.shrink = ratio(b, a)
         self.bids = bids
         self.asks = asks
 
     def has_node(self, i, j):
         return 0 <= j <= i <= self.steps
+
+    def has_node_before_last(self, i, j):
+        return self.has_node(i, j) and i < self.steps
+
+    def has_way(self, way):
+        return len(way) == self.steps and all_between(way, 0, 1)
 
     def bid_at(self, i, j):
         return self.bids[nodes_before(i) + j]

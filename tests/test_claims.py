@@ -2,8 +2,9 @@
 
 import unittest
 
-from tests.helper import EXAMPLE_TREE, FAR, ask, ask_last, check_refused, claim, least, made_claim, made_tree
-from tests.helper import points, range_of, read_points, seen_behind, sum_of, tree, turn
+from tests.helper import EXAMPLE_TREE, FAR, ask, ask_last, check_refused, claim, enough, held_on, least, made_claim
+from tests.helper import made_tree, plan, points, quotes, range_of, read_points, seen_behind, sum_of, told_of, tree
+from tests.helper import turn, walk
 
 # Bids are below asks at the end, so that the two points of a node there tell its cash and its units.
 TREE = tree(2, 1, 1, [5, 5, 5, 2, 2, 2], [6, 6, 6, 9, 9, 9])
@@ -176,7 +177,8 @@ class Sum(unittest.TestCase):
 
 
 class NoTree(unittest.TestCase):
-    CALLS = (claim(0, [0, 0], [0, 0]), turn(0, 0), sum_of(0, 0, 0), least(0, 0, 0, 0), points(0, 0, 0), range_of(0, 0))
+    CALLS = (claim(0, [0, 0], [0, 0]), turn(0, 0), sum_of(0, 0, 0), least(0, 0, 0, 0), points(0, 0, 0), range_of(0, 0),
+             plan(0, 0, 0, 0, 1), walk(0, 0, [0]), held_on(0, 0, [0]), enough(0, 0, 0, 1), quotes(0), told_of(0))
 
     def test_each_call_is_refused(self):
         for call in self.CALLS:
@@ -187,7 +189,8 @@ class NoTree(unittest.TestCase):
             check_refused(self, [tree(1, 1, 1, [8] * 3, [7] * 3)], call, -7)
 
     def test_ahead_of_all_others(self):
-        wrong = (claim(9, [], []), turn(9, 9), sum_of(9, 9, 9), least(9, 9, 9, FAR), points(9, 9, 9), range_of(9, 9))
+        wrong = (claim(9, [], []), turn(9, 9), sum_of(9, 9, 9), least(9, 9, 9, FAR), points(9, 9, 9), range_of(9, 9),
+                 plan(9, 9, 9, FAR, 0), walk(9, FAR, []), held_on(9, FAR, []), enough(9, FAR, FAR, 0), quotes(9), told_of(9))
         for call in wrong:
             self.assertEqual(ask(call), [[-7]])
 

@@ -5,15 +5,25 @@ import io
 import unittest
 
 from costhedge.desk import answers
-from tests.helper import EXAMPLE_TREE, FAR, claim, least, looks, made_cases, made_claim, made_tree, points, range_of
-from tests.helper import sum_of, tree, turn
+from tests.helper import EXAMPLE_TREE, FAR, claim, enough, held_on, least, looks, made_cases, made_claim, made_tree
+from tests.helper import plan, points, quotes, range_of, sum_of, told_of, tree, turn, walk
 
 EXAMPLE = [0, 1, 1, 1, 3, 90, 80, 110, 3, 115, 80, 130,
            1, 0, 2, 0, 0, 2, 0, 1,
            4, 0, 0, 0, 2,
            5, 0, 0, 0,
            6, 1, 0,
-           6, 2, 0]
+           6, 2, 0,
+           7, 0, 0, 0, 4, 1,
+           8, 0, 2, 1, 0,
+           8, 0, 2, 1, 1,
+           9, 0, 4, 1, 1,
+           10, 0, 2, -110, 1,
+           10, 0, 2, -111, 1,
+           11, 1,
+           2, 1, 0,
+           3, 2, 1, 1,
+           12, 2]
 EXAMPLE_ANSWERS = [1, 3,
                    1, 0,
                    7, 0, 45, 49, 49, 48, 47, 49,
@@ -21,7 +31,17 @@ EXAMPLE_ANSWERS = [1, 3,
                    5, 49, 49, 48, 47, 49, 5, 49, 49, 48, 47, 49,
                    5, 49, 49, 53, 47, 49, 5, 49, 49, 53, 47, 49,
                    11, 0, 4, 56, 48, 47, 49, 4, 56, 48, 47, 49,
-                   1, -3]
+                   1, -3,
+                   5, 0, 49, 49, 47, 51,
+                   5, 0, 53, 48, 47, 49,
+                   4, 0, 48, 47, 49,
+                   6, 1, 4, 49, 49, 47, 51,
+                   1, 1,
+                   1, 0,
+                   5, 2, 80, 80, 110, 130,
+                   1, 0,
+                   1, 0,
+                   6, 2, 0, 0, 2, 0, -2]
 
 
 class Untouched(list):
@@ -39,17 +59,30 @@ def joined(calls):
 
 
 def long_line():
-    """A line of 400 calls, of each sort, taken and refused."""
+    """A line of 400 calls, of each of the thirteen sorts, taken and refused."""
     whole = made_tree(3, 4, 900)
     calls = [tree(*whole)] + [claim(r, *made_claim(r, 4, 500000)) for r in (0, 1, 2)]
     calls += [points(k % 3, 0, 0) for k in range(100)]
     while len(calls) < 400:
         k = len(calls)
-        calls.append((least(k % 4, k % 5, k % 3, k), turn(k % 3, 0), sum_of(2, 1, 0), range_of(k % 6, 0))[k % 4])
+        way = [k // step % 2 for step in (1, 2, 4, 8)]
+        calls.append((least(k % 4, k % 5, k % 3, k), turn(k % 3, 0), sum_of(2, 1, 0), range_of(k % 6, 0),
+                      plan(k % 4, k % 5, k % 2, k - 200, k % 13), walk(k % 4, k, way), held_on(k % 3, k, way[k % 5 // 4:]),
+                      enough(k % 3, k, k - 200, k % 11), quotes(k % 6), told_of(k % 4))[k % 10])
     return joined(calls)
 
 
 class Answers(unittest.TestCase):
+    def test_the_long_line_has_all_calls_taken_and_refused(self):
+        self.assertLessEqual(len(long_line()), 16000)
+        given = answers(long_line())
+        place = 0
+        refusals = set()
+        while place < len(given):
+            refusals.add(min(given[place + 1], 0))
+            place += 1 + given[place]
+        self.assertEqual(refusals, {0, -1, -3, -4})
+
     def test_number_by_number(self):
         self.assertEqual(answers(list(EXAMPLE)), EXAMPLE_ANSWERS)
 
@@ -60,13 +93,17 @@ class Answers(unittest.TestCase):
     def test_rows_of_0_and_of_16_numbers_are_passed_over(self):
         for count in (0, 16):
             wrong = tree(1, 1, 1, [FAR] * count, [-FAR] * (16 - count)) + claim(0, [FAR] * count, [-FAR] * 16)
-            self.assertEqual(answers(wrong + EXAMPLE), [1, -3, 1, -7] + EXAMPLE_ANSWERS)
-            self.assertEqual(answers(EXAMPLE[:12] + wrong + EXAMPLE), [1, 3, 1, -3, 1, -3] + EXAMPLE_ANSWERS)
+            wrong += walk(0, 0, [FAR] * count) + held_on(0, 0, [-FAR] * count)
+            self.assertEqual(answers(wrong + EXAMPLE), [1, -3] + [1, -7] * 3 + EXAMPLE_ANSWERS)
+            self.assertEqual(answers(EXAMPLE[:12] + wrong + EXAMPLE), [1, 3] + [1, -3] * 2 + [1, -2] * 2 + EXAMPLE_ANSWERS)
+            self.assertEqual(answers(EXAMPLE[:20] + wrong), [1, 3, 1, 0] + [1, -3] * 4)
 
     def test_refused_calls_between_change_nothing(self):
         refused = [2, 9, 9, 3, 0, 1, 2, 4, 0, 0, 0, FAR, 5, 7, 0, 0, 6, 0, 1]
+        refused += [7, 0, 1, 0, 0, 1, 8, 0, 0, 0, 9, 0, FAR, 1, 0, 10, 0, 0, 0, 0, 11, 2, 12, 1]
+        answered = [1, -1, 1, -2, 1, -4, 1, -1, 1, -3, 1, -3, 1, -3, 1, -4, 1, -4, 1, -3, 1, -2]
         given = answers(EXAMPLE[:20] + refused + EXAMPLE[20:])
-        self.assertEqual(given, EXAMPLE_ANSWERS[:4] + [1, -1, 1, -2, 1, -4, 1, -1, 1, -3] + EXAMPLE_ANSWERS[4:])
+        self.assertEqual(given, EXAMPLE_ANSWERS[:4] + answered + EXAMPLE_ANSWERS[4:])
 
     def test_only_whole_numbers_in_one_list(self):
         given = answers(long_line())

@@ -4,17 +4,13 @@ import unittest
 from fractions import Fraction
 
 from tests.helper import EXAMPLE_TREE, FAR, ask, ask_last, check_refused, claim, fractions_of, least, made_cases
-from tests.helper import node_number, nodes_of, points, read_fraction, read_points, text, tree
+from tests.helper import node_number, nodes_of, points, read_fraction, read_points, text, trading_cost, tree
 
 HOLDINGS = (0, 1, -1, 2, 37, -1000, 999999, 1000000, -1000000)
 
 
 def told_least(whole, asked_for, i, j, x):
     return read_fraction(ask_last(tree(*whole), claim(0, *asked_for), least(0, i, j, x)))
-
-
-def trading_cost(bid, asked, x, y):
-    return (y - x) * (asked if y >= x else bid)
 
 
 class Bent:

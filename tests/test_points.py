@@ -1,50 +1,9 @@
 """Promises 6 and 7: points and range."""
 
 import unittest
-from fractions import Fraction
 
-from tests.helper import EXAMPLE_TREE, FAR, ask, ask_last, check_refused, claim, fractions_of, made_cases
-from tests.helper import node_number, nodes_of, points, range_of, read_counted, read_points, spans_of, text, tree
-
-
-def upper_row(candidates):
-    """The upper row, each point looked at by itself as the document tells it."""
-    best = {}
-    for q, v in candidates:
-        best[q] = max(v, best.get(q, v))
-    row = []
-    for q, v in sorted(best.items()):
-        lesser = [point for point in best.items() if point[0] < q]
-        greater = [point for point in best.items() if point[0] > q]
-        if all(v > v1 + (v2 - v1) * (q - q1) / (q2 - q1) for q1, v1 in lesser for q2, v2 in greater):
-            row.append((q, v))
-    return row
-
-
-def row_value(row, q):
-    for one, other in zip(row, row[1:]):
-        if one[0] <= q <= other[0]:
-            return one[1] + (other[1] - one[1]) * (q - one[0]) / (other[0] - one[0])
-    return dict(row)[q]
-
-
-def document_points(n, a, b, bids, asks, cash, units):
-    """By node its points, straight from the document's words."""
-    found = {}
-    for i, j in reversed(nodes_of(n)):
-        bid = Fraction(bids[node_number(i, j)])
-        asked = Fraction(asks[node_number(i, j)])
-        if i == n:
-            found[i, j] = sorted({(q, cash[j] + units[j] * q) for q in (bid, asked)})
-            continue
-        coming = found[i + 1, j] + found[i + 1, j + 1]
-        row = upper_row([(q * b / a, v * b / a) for q, v in coming])
-        first = max(bid, row[0][0])
-        last = min(asked, row[-1][0])
-        inner = [point for point in row if first < point[0] < last]
-        ends = {(q, row_value(row, q)) for q in (first, last)}
-        found[i, j] = sorted(list(ends) + inner)
-    return found
+from tests.helper import EXAMPLE_TREE, FAR, ask, ask_last, check_refused, claim, document_nodes, fractions_of
+from tests.helper import made_cases, nodes_of, points, range_of, read_counted, read_points, spans_of, text, tree
 
 
 def told_points(whole, asked_for, i, j):
@@ -142,13 +101,13 @@ class Before(unittest.TestCase):
         bottoms = [v.split("/")[1] for q, v in told]
         self.assertGreater(max(len(top) for top in tops), 18)
         self.assertGreater(max(len(bottom) for bottom in bottoms), 18)
-        self.assertEqual(fractions_of(told), document_points(*whole, cash, units)[0, 0])
+        self.assertEqual(fractions_of(told), document_nodes(*whole, cash, units)[1][0, 0])
 
     def test_against_the_words_of_the_document(self):
         counts = set()
         for whole, asked_for in made_cases():
             nodes = nodes_of(whole[0])
-            expected = document_points(*whole, *asked_for)
+            expected = document_nodes(*whole, *asked_for)[1]
             told = ask(tree(*whole), claim(0, *asked_for), *[points(0, i, j) for i, j in nodes])[2:]
             for node, answer in zip(nodes, told):
                 with self.subTest(whole=whole, asked_for=asked_for, node=node):
